@@ -1,0 +1,1 @@
+"""Squareworlds: worlds glued of equal squares."""

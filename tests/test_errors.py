@@ -1,0 +1,130 @@
+"""[2]: the errors, the arguments by name, and the kinds of what is returned."""
+
+import importlib
+import inspect
+import unittest
+
+from sample import LESSON, mixed_worlds
+from squareworlds import errors
+from squareworlds.errors import WorldError
+
+ATTRIBUTES = {
+    "NotWorld": ("rule", "place"),
+    "NotText": ("place",),
+    "NotWord": ("place",),
+    "NotMatrix": (),
+    "TooLong": ("limit",),
+    "TooMany": ("limit",),
+    "NotBlocks": (),
+    "NotHalfTurn": (),
+    "NotKind": (),
+    "NotPaper": ("word",),
+    "NotSheet": ("line",),
+    "NotDone": (),
+    "NotUndone": (),
+    "NotRound": (),
+    "NotBack": (),
+    "NotPlain": (),
+    "NotFigure": ("word",),
+    "NotHigh": (),
+}
+
+# For each function of the interface: its arguments, and a call that is right.
+INTERFACE = {
+    "worlds": {
+        "world_breach": (("value",), (LESSON,)),
+        "check_world": (("value",), (LESSON,)),
+        "renamed": (("world", "listing"), (LESSON, (2, 0, 1))),
+        "met_from": (("world", "square"), (LESSON, 1)),
+        "least_form": (("world",), (LESSON,)),
+        "starts": (("world",), (LESSON,)),
+        "are_alike": (("one", "other"), (LESSON, LESSON)),
+    },
+    "texts": {
+        "written": (("world",), (LESSON,)),
+        "read_world": (("text",), ("1 0 2 / 2 1 0",)),
+    },
+    "corners": {
+        "around": (("world",), (LESSON,)),
+        "corners": (("world",), (LESSON,)),
+        "kind": (("world",), (LESSON,)),
+        "holes": (("world",), (LESSON,)),
+        "corner_at": (("world", "square"), (LESSON, 1)),
+        "corners_of": (("world", "square"), (LESSON, 1)),
+    },
+    "deeds": {
+        "done": (("world", "word"), (LESSON, "abc")),
+        "matrix": (("word",), ("abc",)),
+        "word_of": (("value",), (((1, 1), (0, 1)),)),
+    },
+}
+
+
+def is_of_told_kinds(value):
+    if type(value) is tuple:
+        return all(is_of_told_kinds(part) for part in value)
+    return value is None or type(value) in (int, str, bool)
+
+
+class TestErrors(unittest.TestCase):
+    def test_all_are_there_and_no_others(self):
+        classes = {
+            name
+            for name, value in vars(errors).items()
+            if inspect.isclass(value) and issubclass(value, Exception)
+        }
+        self.assertEqual(classes, {"WorldError", *ATTRIBUTES})
+
+    def test_each_is_a_direct_subclass(self):
+        self.assertEqual(WorldError.__bases__, (ValueError,))
+        for name in ATTRIBUTES:
+            with self.subTest(name):
+                self.assertEqual(getattr(errors, name).__bases__, (WorldError,))
+
+    def test_attributes_are_what_was_told(self):
+        for name, attributes in ATTRIBUTES.items():
+            with self.subTest(name):
+                values = tuple(range(500, 500 + len(attributes)))
+                error = getattr(errors, name)(*values)
+                for attribute, value in zip(attributes, values):
+                    self.assertEqual(getattr(error, attribute), value)
+
+
+class TestInterface(unittest.TestCase):
+    def each(self):
+        for module_name, functions in INTERFACE.items():
+            module = importlib.import_module("squareworlds." + module_name)
+            for name, (arguments, values) in functions.items():
+                yield module, getattr(module, name), arguments, values
+
+    def test_functions_stand_in_their_files(self):
+        for module, function, arguments, values in self.each():
+            with self.subTest(function.__name__):
+                self.assertEqual(function.__module__, module.__name__)
+
+    def test_arguments_by_place_and_by_name(self):
+        for module, function, arguments, values in self.each():
+            with self.subTest(function.__name__):
+                self.assertEqual(tuple(inspect.signature(function).parameters), arguments)
+                by_place = function(*values)
+                by_name = function(**dict(zip(arguments, values)))
+                self.assertEqual(by_place, by_name)
+                self.assertTrue(is_of_told_kinds(by_place))
+
+    def test_what_is_handed_in_stands_as_it_was(self):
+        for module, function, arguments, values in self.each():
+            with self.subTest(function.__name__):
+                before = repr(values)
+                function(*values)
+                self.assertEqual(repr(values), before)
+
+    def test_kinds_of_what_is_returned(self):
+        for world in mixed_worlds():
+            for module, function, arguments, values in self.each():
+                if arguments == ("world",):
+                    with self.subTest(function.__name__, world=world):
+                        self.assertTrue(is_of_told_kinds(function(world)))
+
+
+if __name__ == "__main__":
+    unittest.main()
