@@ -19,11 +19,10 @@ def read_world(text):
     """Return the world whose text this is, otherwise raise NotText with the
     length of the longest beginning that texts of worlds have, too."""
     right = _right_read(text)
-    # Each entry of right has a blank behind it; "/ " follows the last one.
-    place = 2 * len(right) + 2
-    _check_sign(text, place - 1, " ")
+    # Each entry of right has a blank behind it, and each of up one ahead.
+    place = 2 * len(right) + 1
     up = _up_read(text, place, right)
-    _check_sign(text, place + 2 * len(up) - 1, "")
+    _check_sign(text, place + 2 * len(up), "")
     return (tuple(right), tuple(up))
 
 
@@ -59,14 +58,13 @@ def _up_read(text, place, right):
     """Read as many entries as right has, from the place on."""
     up = []
     while len(up) < len(right):
-        if up:
-            _check_sign(text, place - 1, " ")
-        entry = ENTRIES.get(_sign(text, place))
+        _check_sign(text, place, " ")
+        entry = ENTRIES.get(_sign(text, place + 1))
         if entry is None or entry >= len(right) or entry in up:
-            raise NotText(place)
+            raise NotText(place + 1)
         up.append(entry)
         if not _can_hang_together(right, up):
-            raise NotText(place)
+            raise NotText(place + 1)
         place += 2
     return up
 

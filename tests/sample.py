@@ -6,8 +6,10 @@ from squareworlds.worlds import world_breach
 
 LESSON = ((1, 0, 2), (2, 1, 0))
 ONE_SQUARE = ((0,), (0,))
-# Its lot has more than 500 worlds.
-GREAT = ((1, 2, 3, 4, 5, 6, 7, 0), (1, 0, 2, 3, 4, 5, 6, 7))
+# Lots of 768 and 540 worlds, so too great ones, and one of 480.
+GREAT = ((0, 1, 3, 2, 4, 6, 5), (1, 2, 0, 4, 5, 6, 3))
+TOO_GREAT = ((0, 2, 1, 4, 3, 6, 7, 5), (1, 2, 3, 5, 0, 4, 7, 6))
+NEARLY_TOO_GREAT = ((0, 2, 1, 3, 5, 6, 7, 4), (1, 2, 3, 4, 5, 7, 6, 0))
 
 
 def listings(n):

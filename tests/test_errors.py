@@ -4,7 +4,7 @@ import importlib
 import inspect
 import unittest
 
-from sample import LESSON, mixed_worlds
+from sample import LESSON, ONE_SQUARE, mixed_worlds
 from squareworlds import errors
 from squareworlds.errors import WorldError
 
@@ -56,6 +56,49 @@ INTERFACE = {
         "done": (("world", "word"), (LESSON, "abc")),
         "matrix": (("word",), ("abc",)),
         "word_of": (("value",), (((1, 1), (0, 1)),)),
+    },
+    "lots": {
+        "lot": (("world",), (LESSON,)),
+        "lot_rows": (("world",), (LESSON,)),
+        "are_of_one_lot": (("one", "other"), (LESSON, LESSON)),
+        "way": (("one", "other"), (LESSON, LESSON)),
+        "lengths_from": (("world",), (LESSON,)),
+    },
+    "backs": {
+        "brings_back": (("world", "value"), (LESSON, ((1, 2), (0, 1)))),
+        "back_time": (("world", "word"), (LESSON, "ab")),
+        "widths": (("world",), (LESSON,)),
+        "lot_shape": (("world",), (LESSON,)),
+    },
+    "rooms": {
+        "rows_of": (("world",), (LESSON,)),
+        "rooms": (("world",), (LESSON,)),
+        "room_sizes": (("world",), (LESSON,)),
+        "room_sizes_along": (("world", "direction"), (LESSON, (2, 1))),
+        "seams": (("world", "direction"), (LESSON, (2, 1))),
+        "directions_of": (("world", "many"), (LESSON, 3)),
+    },
+    "shares": {
+        "share": (("world",), (LESSON,)),
+        "mean_share": (("world",), (LESSON,)),
+        "sum_of_rates": (("world",), (LESSON,)),
+    },
+    "covers": {
+        "maps": (("one", "other"), (LESSON, ONE_SQUARE)),
+        "moves": (("world",), (LESSON,)),
+        "block_sets": (("world",), (LESSON,)),
+        "under": (("world", "blocks"), (LESSON, ((0, 1, 2),))),
+        "covered": (("world",), (LESSON,)),
+        "is_prime": (("world",), (LESSON,)),
+        "over_both": (("one", "other", "s", "t"), (LESSON, ONE_SQUARE, 1, 0)),
+    },
+    "walks": {
+        "walked": (("world", "square", "walk"), (LESSON, 1, "ru")),
+        "go_back": (("world", "walk"), (LESSON, "ru")),
+        "lattice": (("world",), (LESSON,)),
+        "is_tight": (("world",), (LESSON,)),
+        "flat": (("a", "b", "d"), (3, 1, 2)),
+        "flats": (("n",), (4,)),
     },
 }
 
@@ -121,7 +164,9 @@ class TestInterface(unittest.TestCase):
     def test_kinds_of_what_is_returned(self):
         for world in mixed_worlds():
             for module, function, arguments, values in self.each():
-                if arguments == ("world",):
+                # The lots of the greater worlds here may be too great.
+                needs_lot = module.__name__.split(".")[1] in ("lots", "backs", "shares")
+                if arguments == ("world",) and not (needs_lot and len(world[0]) > 6):
                     with self.subTest(function.__name__, world=world):
                         self.assertTrue(is_of_told_kinds(function(world)))
 

@@ -1,0 +1,143 @@
+"""Which worlds cover which: maps, moves and block sets."""
+
+from squareworlds.errors import NotBlocks, TooMany
+from squareworlds.listings import is_whole, merged
+from squareworlds.worlds import least_form, met_from
+
+MOST_SQUARES = 8
+
+
+def maps(one, other):
+    """Return all maps from one world to another one, ascending."""
+    found = []
+    for square in range(len(other[0])):
+        images = _images(one, other, square)
+        if images is not None:
+            found.append(images)
+    return tuple(found)
+
+
+def _images(one, other, square):
+    """Return the map that takes square 0 to a square, None if there is none."""
+    images = {0: square}
+    for here in met_from(one, 0):
+        for step, far_step in zip(one, other):
+            far = far_step[images[here]]
+            if images.setdefault(step[here], far) != far:
+                return None
+    return tuple([images[here] for here in range(len(one[0]))])
+
+
+def moves(world):
+    """Return all maps from a world to itself, ascending."""
+    return maps(world, world)
+
+
+def block_sets(world):
+    """Return all block sets, ascending.
+
+    Each is told by the block of square 0, so it comes from single squares by
+    joining the squares of this block to square 0, one after the other."""
+    squares = list(range(len(world[0])))
+    found = [squares]
+    at = 0
+    while at < len(found):
+        for square in squares:
+            labels = _least_labels(world, found[at], square)
+            if labels not in found:
+                found.append(labels)
+        at += 1
+    return tuple(sorted([_blocks(labels) for labels in found]))
+
+
+def _least_labels(world, labels, square):
+    """Return the labels of the least blocks that hold those told by labels,
+    and a square in the block of square 0."""
+    pairs = [(0, square)]
+    while pairs:
+        labels = merged(labels, pairs)
+        pairs = _pairs_to_join(world, labels)
+    # A block is labelled by its least square, so that like ones have one label.
+    return [labels.index(label) for label in labels]
+
+
+def _pairs_to_join(world, labels):
+    """Return the pairs to which right and up lead pairs of one block, and that
+    are not of one block themselves."""
+    pairs = []
+    for step in world:
+        for one in range(len(labels)):
+            for other in range(one):
+                if labels[one] == labels[other] and labels[step[one]] != labels[step[other]]:
+                    pairs.append((step[one], step[other]))
+    return pairs
+
+
+def _blocks(labels):
+    """Return the block set in which each block is labelled by its least square."""
+    blocks = []
+    for least in range(len(labels)):
+        if labels[least] == least:
+            blocks.append(tuple([s for s, label in enumerate(labels) if label == least]))
+    return tuple(blocks)
+
+
+def is_block_set(world, value):
+    """Tell whether a value is a block set of the world."""
+    if not isinstance(value, tuple):
+        return False
+    for block in value:
+        if not isinstance(block, tuple) or not all([is_whole(s) for s in block]):
+            return False
+    return value in block_sets(world)
+
+
+def under(world, blocks):
+    """Return the world whose squares are the blocks of a block set."""
+    if not is_block_set(world, blocks):
+        raise NotBlocks("no block set of this world")
+    return _world_under(world, blocks)
+
+
+def _world_under(world, blocks):
+    right, up = world
+    home = {}
+    for index, block in enumerate(blocks):
+        for square in block:
+            home[square] = index
+    return (
+        tuple([home[right[block[0]]] for block in blocks]),
+        tuple([home[up[block[0]]] for block in blocks]),
+    )
+
+
+def covered(world):
+    """Return the unlike least forms of all worlds that the world covers."""
+    return tuple(sorted({least_form(_world_under(world, blocks)) for blocks in block_sets(world)}))
+
+
+def is_prime(world):
+    """Tell whether a world of at least two squares has just two block sets."""
+    return len(world[0]) > 1 and len(block_sets(world)) == 2
+
+
+def over_both(one, other, s, t):
+    """Return the world of the pairs of squares that are met from (s, t)."""
+    pairs = [(s, t)]
+    at = 0
+    while at < len(pairs):
+        here = pairs[at]
+        for near in (_pair_behind(one[0], other[0], here), _pair_behind(one[1], other[1], here)):
+            if near not in pairs:
+                pairs.append(near)
+        at += 1
+    if len(pairs) > MOST_SQUARES:
+        raise TooMany(MOST_SQUARES)
+    return (
+        tuple([pairs.index(_pair_behind(one[0], other[0], pair)) for pair in pairs]),
+        tuple([pairs.index(_pair_behind(one[1], other[1], pair)) for pair in pairs]),
+    )
+
+
+def _pair_behind(step, far_step, pair):
+    return (step[pair[0]], far_step[pair[1]])
