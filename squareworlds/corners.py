@@ -28,9 +28,18 @@ def holes(world):
     return (len(world[0]) - len(corners(world))) // 2 + 1
 
 
+def corner_indices(world):
+    """Return, square by square, the index of its upper right corner."""
+    indices = [0] * len(world[0])
+    for index, corner in enumerate(corners(world)):
+        for square in corner:
+            indices[square] = index
+    return tuple(indices)
+
+
 def corner_at(world, square):
     """Return the index of the upper right corner of a square."""
-    return [square in corner for corner in corners(world)].index(True)
+    return corner_indices(world)[square]
 
 
 def corners_of(world, square):
@@ -39,9 +48,5 @@ def corners_of(world, square):
     right, up = world
     left = undone(right)
     lower = undone(up)[square]
-    return (
-        corner_at(world, left[lower]),
-        corner_at(world, lower),
-        corner_at(world, left[square]),
-        corner_at(world, square),
-    )
+    indices = corner_indices(world)
+    return (indices[left[lower]], indices[lower], indices[left[square]], indices[square])

@@ -1,7 +1,7 @@
 """Which worlds cover which: maps, moves and block sets."""
 
 from squareworlds.errors import NotBlocks, TooMany
-from squareworlds.listings import is_whole, merged
+from squareworlds.listings import is_whole_tuple, merged
 from squareworlds.worlds import least_form, met_from
 
 MOST_SQUARES = 8
@@ -84,11 +84,8 @@ def _blocks(labels):
 
 def is_block_set(world, value):
     """Tell whether a value is a block set of the world."""
-    if not isinstance(value, tuple):
+    if not isinstance(value, tuple) or not all([is_whole_tuple(block) for block in value]):
         return False
-    for block in value:
-        if not isinstance(block, tuple) or not all([is_whole(s) for s in block]):
-            return False
     return value in block_sets(world)
 
 

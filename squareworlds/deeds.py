@@ -58,15 +58,24 @@ DEEDS = {
 }
 
 
-def check_letters(value, letters):
-    """Raise NotWord if a value is no string of at most 400 of the letters."""
+def wrong_letter(value, letters):
+    """Return None for a string of at most 400 of the letters, otherwise the
+    place of the first sign that is wrong or too many, -1 for no string."""
     if not isinstance(value, str):
-        raise NotWord(-1)
+        return -1
     for place, sign in enumerate(value[:MOST_LETTERS]):
         if sign not in letters:
-            raise NotWord(place)
+            return place
     if len(value) > MOST_LETTERS:
-        raise NotWord(MOST_LETTERS)
+        return MOST_LETTERS
+    return None
+
+
+def check_letters(value, letters):
+    """Raise NotWord if a value is no string of at most 400 of the letters."""
+    place = wrong_letter(value, letters)
+    if place is not None:
+        raise NotWord(place)
 
 
 def done(world, word):

@@ -7,6 +7,11 @@ def is_whole(value):
     return isinstance(value, int) and not isinstance(value, bool)
 
 
+def is_whole_tuple(value):
+    """Tell whether a value is a tuple of integers."""
+    return isinstance(value, tuple) and all([is_whole(entry) for entry in value])
+
+
 def first_wrong(entries):
     """Return the index of the first entry that keeps a tuple from being a
     listing, None if it is one."""

@@ -9,11 +9,16 @@ from squareworlds.worlds import least_form, met_from
 WALK_LETTERS = "ruld"
 
 
+def steps_of(world):
+    """Return a dict from each letter of walks to the listing by which it goes."""
+    right, up = world
+    return {"r": right, "u": up, "l": undone(right), "d": undone(up)}
+
+
 def walked(world, square, walk):
     """Return the square to which a walk leads."""
     check_letters(walk, WALK_LETTERS)
-    right, up = world
-    steps = {"r": right, "u": up, "l": undone(right), "d": undone(up)}
+    steps = steps_of(world)
     for letter in walk:
         square = steps[letter][square]
     return square

@@ -6,7 +6,7 @@ import unittest
 
 from sample import LESSON, ONE_SQUARE, mixed_worlds
 from squareworlds import errors
-from squareworlds.errors import WorldError
+from squareworlds.errors import NotKind, WorldError
 
 ATTRIBUTES = {
     "NotWorld": ("rule", "place"),
@@ -100,6 +100,38 @@ INTERFACE = {
         "flat": (("a", "b", "d"), (3, 1, 2)),
         "flats": (("n",), (4,)),
     },
+    "halfturns": {
+        "half_turns": (("world",), (LESSON,)),
+        "stays": (("world", "half_turn"), (LESSON, (0, 1, 2))),
+        "is_twofold": (("world",), (LESSON,)),
+        "whole_stays": (("world",), (LESSON,)),
+    },
+    "straights": {
+        "crossed": (("world", "square", "p", "q"), (LESSON, 1, 3, 2)),
+        "straight": (("world", "square", "p", "q"), (LESSON, 1, 3, 2)),
+        "chords": (("world", "p", "q"), (LESSON, 3, 2)),
+    },
+    "numbers": {
+        "all_parts": (("n",), (5,)),
+        "class_size": (("parts",), ((3, 1),)),
+        "character": (("shape", "turns"), ((3, 1), (2, 2))),
+        "pair_count": (("turns",), ((3, 1),)),
+        "joined_count": (("turns",), ((3, 1),)),
+        "weight": (("turns",), ((3, 1),)),
+        "row_count": (("rows", "turns"), ((4,), (3, 1))),
+    },
+    "lists": {
+        "worlds": (("n",), (3,)),
+        "worlds_of": (("turns",), ((3,),)),
+        "all_lots": (("n",), (3,)),
+        "kinds": (("n",), (5,)),
+    },
+    "papers": {
+        "lot_paper": (("one", "other"), (LESSON, ONE_SQUARE)),
+        "check_lot_paper": (("one", "other", "paper"), (LESSON, LESSON, ("word", "c"))),
+        "cover_paper": (("one", "other"), (ONE_SQUARE, LESSON)),
+        "check_cover_paper": (("one", "other", "paper"), (LESSON, LESSON, ("map", (0, 1, 2)))),
+    },
 }
 
 
@@ -168,7 +200,13 @@ class TestInterface(unittest.TestCase):
                 needs_lot = module.__name__.split(".")[1] in ("lots", "backs", "shares")
                 if arguments == ("world",) and not (needs_lot and len(world[0]) > 6):
                     with self.subTest(function.__name__, world=world):
-                        self.assertTrue(is_of_told_kinds(function(world)))
+                        self.assertTrue(is_of_told_kinds(self.told_by(function, world)))
+
+    def told_by(self, function, world):
+        try:
+            return function(world)
+        except NotKind:
+            return None
 
 
 if __name__ == "__main__":
