@@ -15,13 +15,19 @@ def steps_of(world):
     return {"r": right, "u": up, "l": undone(right), "d": undone(up)}
 
 
+def squares_on(world, square, letters):
+    """Return the squares on a walk from a square on, both ends with them."""
+    steps = steps_of(world)
+    squares = [square]
+    for letter in letters:
+        squares.append(steps[letter][squares[-1]])
+    return squares
+
+
 def walked(world, square, walk):
     """Return the square to which a walk leads."""
     check_letters(walk, WALK_LETTERS)
-    steps = steps_of(world)
-    for letter in walk:
-        square = steps[letter][square]
-    return square
+    return squares_on(world, square, walk)[-1]
 
 
 def go_back(world, walk):

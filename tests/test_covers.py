@@ -3,7 +3,7 @@
 import unittest
 from itertools import product
 
-from sample import LESSON, ONE_SQUARE, all_worlds, mixed, mixed_worlds
+from sample import LESSON, ONE_SQUARE, all_worlds, mixed_worlds
 from squareworlds.covers import (
     block_sets,
     covered,

@@ -5,7 +5,7 @@ import inspect
 import unittest
 
 from sample import LESSON, ONE_SQUARE, mixed_worlds
-from squareworlds import errors
+from squareworlds import books, errors
 from squareworlds.errors import NotKind, WorldError
 
 ATTRIBUTES = {
@@ -28,6 +28,8 @@ ATTRIBUTES = {
     "NotFigure": ("word",),
     "NotHigh": (),
 }
+
+TWO_WALKS = ("world", "square", "walk", "far_square", "far_walk")
 
 # For each function of the interface: its arguments, and a call that is right.
 INTERFACE = {
@@ -132,6 +134,40 @@ INTERFACE = {
         "cover_paper": (("one", "other"), (ONE_SQUARE, LESSON)),
         "check_cover_paper": (("one", "other", "paper"), (LESSON, LESSON, ("map", (0, 1, 2)))),
     },
+    "sheets": {
+        "judged": (("text",), ("world a 0 / 0\nkind a\nrooms a 2",)),
+    },
+    "classes": {
+        "count_of": (("world", "square", "walk"), (LESSON, 1, "rud")),
+        "tie_sides": (("world",), (LESSON,)),
+        "class_of": (("world", "square", "walk"), (LESSON, 1, "rr")),
+        "crossing": (TWO_WALKS, (LESSON, 1, "rr", 2, "uu")),
+        "class_walks": (("world",), (LESSON,)),
+        "walk_behind": (("walk", "word"), ("rul", "ab")),
+    },
+    "classpapers": {
+        "class_paper": (TWO_WALKS, (LESSON, 1, "rr", 2, "uu")),
+        "check_class_paper": (
+            TWO_WALKS + ("paper",), (LESSON, 1, "rr", 1, "ll", ("walk", 1, "u"))
+        ),
+    },
+    "returns": {
+        "return_listing": (("world", "word"), (LESSON, "c")),
+        "count_behind": (("world", "count", "word"), (LESSON, (1, 2, 0, -1, 0, 3), "ab")),
+        "return_polynomial": (("world", "word"), (LESSON, "c")),
+        "rest_polynomial": (("world", "word"), (LESSON, "c")),
+        "trace_of": (("world", "word"), (LESSON, "c")),
+    },
+    "parity": {
+        "turning": (("world", "square", "walk"), (LESSON, 1, "rr")),
+        "parity": (("world",), (LESSON,)),
+    },
+}
+
+# For each class: the arguments that make an object, its methods with theirs.
+CLASSES = {
+    "Book": (("world", "most"), {"do": ("letter",), "undo": (), "again": (), "trial": ("word",), "twin": ()}),
+    "Guide": (("book", "goal"), {"left": (), "go": ()}),
 }
 
 
@@ -192,6 +228,20 @@ class TestInterface(unittest.TestCase):
                 before = repr(values)
                 function(*values)
                 self.assertEqual(repr(values), before)
+
+    def test_classes(self):
+        for name, (arguments, methods) in CLASSES.items():
+            kept = getattr(books, name)
+            self.assertEqual(kept.__module__, "squareworlds.books")
+            self.assertEqual(tuple(inspect.signature(kept).parameters), arguments)
+            for method, rest in methods.items():
+                with self.subTest(name, method=method):
+                    parameters = tuple(inspect.signature(vars(kept)[method]).parameters)
+                    self.assertEqual(parameters[1:], rest)
+        most = inspect.signature(books.Book).parameters["most"]
+        self.assertEqual((most.kind, most.default), (most.KEYWORD_ONLY, 40))
+        for name in ("now", "letters"):
+            self.assertIsInstance(vars(books.Book)[name], property)
 
     def test_kinds_of_what_is_returned(self):
         for world in mixed_worlds():

@@ -2,7 +2,19 @@
 
 import unittest
 
-from sample import GREAT, LESSON, ONE_SQUARE, all_worlds, listings, mixed, mixed_worlds
+from sample import (
+    GREAT,
+    GREATER_WORLDS,
+    LESSON,
+    ONE_SQUARE,
+    TWOFOLD,
+    WITH_OTHER_HALF_TURNS,
+    WITHOUT_HALF_TURNS,
+    all_worlds,
+    listings,
+    mixed,
+    mixed_worlds,
+)
 from squareworlds.corners import corner_at, corners, holes, kind
 from squareworlds.covers import moves
 from squareworlds.deeds import done
@@ -18,41 +30,6 @@ TALL = ((0, 1), (1, 0))
 LONG = ((1, 0), (0, 1))
 ASKEW = ((1, 0), (1, 0))
 CIRCLE = ((1, 2, 0), (0, 1, 2))
-
-# Worlds with three holes and more: the kind, twofold or not.
-TWOFOLD = {
-    (5,): ((0, 2, 1, 4, 3), (1, 0, 3, 2, 4)),
-    (3, 3): ((0, 2, 1, 3, 5, 4), (1, 2, 3, 4, 0, 5)),
-    (3, 2, 2): ((0, 2, 1, 3, 4, 6, 5), (1, 3, 4, 2, 5, 0, 6)),
-    (2, 2, 2, 2): ((0, 2, 1, 3, 4, 6, 5, 7), (1, 3, 4, 2, 5, 0, 7, 6)),
-    (7,): ((0, 2, 1, 4, 3, 6, 5), (1, 0, 3, 2, 5, 4, 6)),
-    (5, 3): ((0, 2, 1, 3, 5, 4, 7, 6), (1, 2, 3, 4, 0, 6, 5, 7)),
-    (4, 4): ((0, 2, 1, 4, 3, 6, 5, 7), (1, 0, 3, 2, 5, 4, 7, 6)),
-}
-# These have half turns, but none that leaves enough where it is.
-WITH_OTHER_HALF_TURNS = {
-    (5,): ((0, 2, 1, 4, 3), (1, 2, 3, 4, 0)),
-    (3, 3): ((0, 2, 1, 3, 5, 4), (1, 3, 4, 5, 0, 2)),
-    (3, 2, 2): ((0, 2, 1, 3, 4, 6, 5), (1, 3, 4, 5, 6, 2, 0)),
-    (2, 2, 2, 2): ((0, 2, 1, 3, 4, 6, 5, 7), (1, 3, 4, 5, 6, 7, 0, 2)),
-    (7,): ((0, 2, 1, 3, 5, 6, 4), (1, 3, 4, 5, 0, 2, 6)),
-    (5, 3): ((0, 2, 1, 3, 5, 4, 7, 6), (1, 2, 3, 4, 5, 6, 7, 0)),
-    (4, 4): ((0, 2, 1, 3, 5, 6, 4, 7), (1, 3, 4, 5, 0, 2, 7, 6)),
-}
-WITHOUT_HALF_TURNS = {
-    (5,): ((0, 2, 1, 4, 3), (1, 2, 3, 0, 4)),
-    (4, 2): ((0, 2, 1, 3, 5, 4), (1, 0, 3, 4, 2, 5)),
-    (3, 3): ((0, 1, 3, 2, 4, 6, 5), (1, 2, 3, 4, 5, 0, 6)),
-    (3, 2, 2): ((0, 2, 1, 3, 5, 4, 6), (1, 0, 3, 4, 6, 2, 5)),
-    (2, 2, 2, 2): ((0, 2, 3, 4, 5, 7, 1, 6), (1, 3, 0, 4, 6, 2, 5, 7)),
-    (7,): ((0, 2, 1, 3, 5, 6, 4), (1, 3, 4, 5, 0, 6, 2)),
-    (6, 2): ((0, 2, 1, 3, 4, 6, 7, 5), (1, 3, 4, 5, 6, 0, 2, 7)),
-    (5, 3): ((0, 2, 1, 3, 5, 4, 7, 6), (1, 2, 3, 4, 5, 6, 0, 7)),
-    (4, 4): ((0, 2, 1, 3, 5, 6, 4, 7), (1, 3, 4, 5, 0, 7, 2, 6)),
-}
-GREATER_WORLDS = [
-    *TWOFOLD.values(), *WITH_OTHER_HALF_TURNS.values(), *WITHOUT_HALF_TURNS.values()
-]
 
 # Tight worlds of the kind (3,): the world, how many worlds its lot has, and
 # how many corners the half turn leaves.

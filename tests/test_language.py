@@ -16,7 +16,7 @@ LIBRARY = {
 }
 BUILTINS = set(
     "len range enumerate zip min max sum abs sorted reversed int str bool bytes list tuple dict"
-    " set isinstance repr any all divmod map ValueError IndexError KeyError super".split()
+    " set isinstance repr any all divmod map ValueError IndexError KeyError super property".split()
 )
 METHODS = set(
     "append clear copy count endswith extend find get index insert isalnum isalpha isdigit"
@@ -52,6 +52,20 @@ STATEMENTS = (
 )
 
 
+# What is not kept, and by what it is iterated at once.
+ITERATED = set("range zip enumerate reversed items keys values permutations".split())
+ITERATING = set(
+    "list tuple dict sorted sum any all enumerate zip min max reversed permutations".split()
+)
+
+
+def name_called(node):
+    """The name of the function or method that is called, None for no call."""
+    if not isinstance(node, ast.Call):
+        return None
+    return getattr(node.func, "id", getattr(node.func, "attr", None))
+
+
 def tree_of(path):
     return ast.parse(path.read_text(encoding="utf-8"))
 
@@ -66,6 +80,21 @@ def is_docstring(node):
 
 def functions_in(tree):
     return [node for node in ast.walk(tree) if isinstance(node, ast.FunctionDef)]
+
+
+def classes_in(tree):
+    return [node for node in tree.body if isinstance(node, ast.ClassDef)]
+
+
+def own_methods():
+    """The names of all methods of the package's own classes."""
+    return {
+        node.name
+        for path in FILES
+        for part in classes_in(tree_of(path))
+        for node in part.body
+        if isinstance(node, ast.FunctionDef)
+    }
 
 
 def bound_names(function):
@@ -103,7 +132,17 @@ class TestFiles(unittest.TestCase):
             for function in functions_in(tree_of(path)):
                 lines = function.end_lineno - function.lineno + 1
                 self.assertLessEqual(lines, 40, (path, function.name))
-                self.assertEqual(function.decorator_list, [], (path, function.name))
+
+    def test_decorators_make_properties_alone(self):
+        for path in FILES:
+            tree = tree_of(path)
+            methods = [node for part in classes_in(tree) for node in part.body]
+            for function in functions_in(tree):
+                names = [ast.unparse(node) for node in function.decorator_list]
+                if function in methods:
+                    self.assertIn(names, ([], ["property"]), (path, function.name))
+                else:
+                    self.assertEqual(names, [], (path, function.name))
 
 
 class TestModules(unittest.TestCase):
@@ -165,7 +204,7 @@ class TestModules(unittest.TestCase):
             self.assertEqual(len(names), len(set(names)), path)
             read = {node.id for node in ast.walk(tree) if isinstance(node, ast.Name)}
             self.assertLessEqual(imported, read, path)
-            classes = {node.name for node in tree.body if isinstance(node, ast.ClassDef)}
+            classes = {node.name for node in classes_in(tree)}
             for function in functions_in(tree):
                 local = bound_names(function)
                 self.assertEqual(local & (imported | classes), set(), (path, function.name))
@@ -226,8 +265,37 @@ class TestCode(unittest.TestCase):
                     continue
                 if node.func.attr == "__init__" and isinstance(node.func.value, ast.Call):
                     continue
-                self.assertIn(node.func.attr, METHODS, (path, node.lineno))
+                self.assertIn(node.func.attr, METHODS | own_methods(), (path, node.lineno))
                 self.assertEqual(node.keywords, [], (path, node.lineno))
+
+    def test_own_methods_have_names_of_their_own(self):
+        self.assertEqual(own_methods() & METHODS, set())
+
+    def test_what_is_iterated_at_once(self):
+        for path in FILES:
+            tree = tree_of(path)
+            right_places = set()
+            for node in ast.walk(tree):
+                if isinstance(node, (ast.For, ast.comprehension)):
+                    right_places.add(node.iter)
+                elif isinstance(node, ast.Compare) and isinstance(node.ops[0], (ast.In, ast.NotIn)):
+                    right_places.add(node.comparators[0])
+                elif isinstance(node, ast.Assign) and name_called(node.value) == "range":
+                    right_places.add(node.value)
+                elif name_called(node) in ITERATING:
+                    right_places.update(node.args)
+            for node in ast.walk(tree):
+                if name_called(node) in ITERATED:
+                    self.assertIn(node, right_places, (path, node.lineno))
+
+    def test_attributes_of_own_objects_are_assigned_in_methods(self):
+        for path in FILES:
+            tree = tree_of(path)
+            inside = [part for node in classes_in(tree) for part in ast.walk(node)]
+            for node in ast.walk(tree):
+                if isinstance(node, ast.Attribute) and isinstance(node.ctx, ast.Store):
+                    self.assertIn(node, inside, (path, node.lineno))
+                    self.assertIsInstance(node.value, ast.Name, (path, node.lineno))
 
     def test_sets_are_not_iterated(self):
         for path in FILES:

@@ -151,6 +151,7 @@ class TestCheckLotPaper(PaperCase):
             (first, second, third, third),
             (first, second, third, LESSON),
             (LESSON,) + LESSON_LOT,
+            tuple(sorted((LESSON,) + LESSON_LOT)),
             (first, second, least_form(LESSON) + ((),)),
             (first, second, list(third)),
             (first, second, (list(third[0]), third[1])),
