@@ -120,21 +120,29 @@ def is_prime(world):
 
 def over_both(one, other, s, t):
     """Return the world of the pairs of squares that are met from (s, t)."""
-    pairs = [(s, t)]
+    return over_all([one, other], (s, t))
+
+
+def over_all(worlds, squares):
+    """Return the world of the tuples of a square of each world that are met
+    from a tuple of squares by going in all worlds at once."""
+    met = [squares]
     at = 0
-    while at < len(pairs):
-        here = pairs[at]
-        for near in (_pair_behind(one[0], other[0], here), _pair_behind(one[1], other[1], here)):
-            if near not in pairs:
-                pairs.append(near)
+    while at < len(met):
+        for near in (_squares_behind(worlds, 0, met[at]), _squares_behind(worlds, 1, met[at])):
+            if near not in met:
+                met.append(near)
+        # There may be very many, so they are not met beyond what is too many.
+        if len(met) > MOST_SQUARES:
+            raise TooMany(MOST_SQUARES)
         at += 1
-    if len(pairs) > MOST_SQUARES:
-        raise TooMany(MOST_SQUARES)
     return (
-        tuple([pairs.index(_pair_behind(one[0], other[0], pair)) for pair in pairs]),
-        tuple([pairs.index(_pair_behind(one[1], other[1], pair)) for pair in pairs]),
+        tuple([met.index(_squares_behind(worlds, 0, here)) for here in met]),
+        tuple([met.index(_squares_behind(worlds, 1, here)) for here in met]),
     )
 
 
-def _pair_behind(step, far_step, pair):
-    return (step[pair[0]], far_step[pair[1]])
+def _squares_behind(worlds, side, squares):
+    """Return the squares to the right of squares, or above them for side 1,
+    each in its world."""
+    return tuple([world[side][square] for world, square in zip(worlds, squares)])

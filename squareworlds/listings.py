@@ -64,3 +64,9 @@ def merged(labels, pairs):
         new = labels[other]
         labels = [new if label == old else label for label in labels]
     return labels
+
+
+def tally(numbers):
+    """Return the pairs (number, how often it is told), ascending."""
+    told = sorted(numbers)
+    return tuple([(number, told.count(number)) for number in sorted(set(told))])

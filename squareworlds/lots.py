@@ -14,10 +14,10 @@ def lot(world):
     """Return the least forms of all worlds to which words lead."""
     # "c" leads where "aBa" leads, and "a" and "b" done often enough undo
     # themselves, so these two letters lead to all of them.
-    return tuple(sorted(list(_ways_from(world, "ab"))))
+    return tuple(sorted(list(ways_from(world, "ab"))))
 
 
-def _ways_from(world, letters):
+def ways_from(world, letters):
     """Return a dict from each world of the lot, as it is met, to the first of
     the shortest words of these letters that lead to it."""
     start = least_form(world)
@@ -57,10 +57,10 @@ def way(one, other):
     from one world to a world alike to the other, None if there is none."""
     if len(one[0]) != len(other[0]) or kind(one) != kind(other):
         return None
-    return _ways_from(one, WAY_LETTERS).get(least_form(other))
+    return ways_from(one, WAY_LETTERS).get(least_form(other))
 
 
 def lengths_from(world):
     """Return how many worlds of the lot have a way of 0, 1, .. letters."""
-    lengths = [len(word) for word in _ways_from(world, WAY_LETTERS).values()]
+    lengths = [len(word) for word in ways_from(world, WAY_LETTERS).values()]
     return tuple([lengths.count(length) for length in range(max(lengths) + 1)])

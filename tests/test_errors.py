@@ -6,7 +6,7 @@ import unittest
 
 from sample import LESSON, ONE_SQUARE, mixed_worlds
 from squareworlds import books, errors
-from squareworlds.errors import NotKind, WorldError
+from squareworlds.errors import NotKind, TooMany, WorldError
 
 ATTRIBUTES = {
     "NotWorld": ("rule", "place"),
@@ -162,6 +162,29 @@ INTERFACE = {
         "turning": (("world", "square", "walk"), (LESSON, 1, "rr")),
         "parity": (("world",), (LESSON,)),
     },
+    "pieces": {
+        "pieces": (("world", "p", "q"), (LESSON, 3, 2)),
+        "piece_rounds": (("world", "p", "q"), (LESSON, 3, 2)),
+    },
+    "groups": {
+        "group_order": (("world",), (LESSON,)),
+        "in_group": (("world", "value"), (LESSON, (2, 1, 0))),
+        "still_order": (("world",), (LESSON,)),
+        "is_normal": (("world",), (LESSON,)),
+        "normal_cover": (("world",), (LESSON,)),
+    },
+    "slits": {
+        "slit": (("one", "s", "other", "t"), (LESSON, 2, ONE_SQUARE, 0)),
+    },
+    "lengths": {
+        "rooms_to": (("world", "most"), (LESSON, 20)),
+        "field_to": (("world", "most"), (LESSON, 20)),
+    },
+    "ends": {
+        "ends": (("world",), (LESSON,)),
+        "end_of": (("world", "direction"), (LESSON, (-3, 2))),
+        "back_words": (("world",), (LESSON,)),
+    },
 }
 
 # For each class: the arguments that make an object, its methods with theirs.
@@ -247,7 +270,7 @@ class TestInterface(unittest.TestCase):
         for world in mixed_worlds():
             for module, function, arguments, values in self.each():
                 # The lots of the greater worlds here may be too great.
-                needs_lot = module.__name__.split(".")[1] in ("lots", "backs", "shares")
+                needs_lot = module.__name__.split(".")[1] in ("lots", "backs", "shares", "ends")
                 if arguments == ("world",) and not (needs_lot and len(world[0]) > 6):
                     with self.subTest(function.__name__, world=world):
                         self.assertTrue(is_of_told_kinds(self.told_by(function, world)))
@@ -255,7 +278,7 @@ class TestInterface(unittest.TestCase):
     def told_by(self, function, world):
         try:
             return function(world)
-        except NotKind:
+        except (NotKind, TooMany):
             return None
 
 
