@@ -47,7 +47,7 @@ def block_sets(world):
             if labels not in found:
                 found.append(labels)
         at += 1
-    return tuple(sorted([_blocks(labels) for labels in found]))
+    return tuple(sorted([blocks_of(labels) for labels in found]))
 
 
 def _least_labels(world, labels, square):
@@ -73,26 +73,26 @@ def _pairs_to_join(world, labels):
     return pairs
 
 
-def _blocks(labels):
-    """Return the block set in which each block is labelled by its least square."""
+def blocks_of(labels):
+    """Return the block set in which the squares of a block have one label."""
     blocks = []
-    for least in range(len(labels)):
-        if labels[least] == least:
-            blocks.append(tuple([s for s, label in enumerate(labels) if label == least]))
+    for square, told in enumerate(labels):
+        if labels.index(told) == square:
+            blocks.append(tuple([s for s, label in enumerate(labels) if label == told]))
     return tuple(blocks)
 
 
-def is_block_set(world, value):
-    """Tell whether a value is a block set of the world."""
+def check_blocks(world, value):
+    """Raise NotBlocks if a value is no block set of the world."""
     if not isinstance(value, tuple) or not all([is_whole_tuple(block) for block in value]):
-        return False
-    return value in block_sets(world)
+        raise NotBlocks("no tuple of tuples of integers")
+    if value not in block_sets(world):
+        raise NotBlocks("no block set of this world")
 
 
 def under(world, blocks):
     """Return the world whose squares are the blocks of a block set."""
-    if not is_block_set(world, blocks):
-        raise NotBlocks("no block set of this world")
+    check_blocks(world, blocks)
     return _world_under(world, blocks)
 
 

@@ -15,11 +15,11 @@ def is_whole_tuple(value):
 def first_wrong(entries):
     """Return the index of the first entry that keeps a tuple from being a
     listing, None if it is one."""
-    met = []
+    met = set()
     for place, entry in enumerate(entries):
         if not is_whole(entry) or not 0 <= entry < len(entries) or entry in met:
             return place
-        met.append(entry)
+        met.add(entry)
     return None
 
 
@@ -68,5 +68,4 @@ def merged(labels, pairs):
 
 def tally(numbers):
     """Return the pairs (number, how often it is told), ascending."""
-    told = sorted(numbers)
-    return tuple([(number, told.count(number)) for number in sorted(set(told))])
+    return tuple([(number, numbers.count(number)) for number in sorted(set(numbers))])

@@ -2,22 +2,27 @@
 
 from squareworlds.corners import corner_indices, corners
 from squareworlds.listings import undone
+from squareworlds.walks import squares_on
 
 
-def crossed(world, square, p, q):
-    """Return the squares through which a straight step goes."""
-    right, up = world
-    squares = [square]
+def letters_over(p, q):
+    """Return the letters of the sides that a straight step goes over."""
+    letters = []
     # The line comes to the height y behind the width x if x / p < y / q.
     x, y = 1, 1
     while x < p or y < q:
         if x * q < y * p:
-            squares.append(right[squares[-1]])
+            letters.append("r")
             x += 1
         else:
-            squares.append(up[squares[-1]])
+            letters.append("u")
             y += 1
-    return tuple(squares)
+    return "".join(letters)
+
+
+def crossed(world, square, p, q):
+    """Return the squares through which a straight step goes."""
+    return tuple(squares_on(world, square, letters_over(p, q)))
 
 
 def _square_behind(world, square, p, q):
@@ -31,7 +36,7 @@ def _square_behind(world, square, p, q):
     return up[right[crossed(world, square, p, q)[-1]]]
 
 
-def _great_corners(world):
+def great_corners(world):
     """Return, square by square, the index of its lower left corner if this one
     is great, otherwise None."""
     left = undone(world[0])
@@ -48,7 +53,7 @@ def _great_corners(world):
 def straight(world, square, p, q):
     """Return how many steps a line makes to the first great corner, and its
     index; None if the line comes round without one."""
-    great = _great_corners(world)
+    great = great_corners(world)
     here = _square_behind(world, square, p, q)
     steps = 1
     while great[here] is None:
@@ -63,7 +68,7 @@ def chords(world, p, q):
     """Return the numbers of steps of all lines that begin at great corners,
     the lesser ones first."""
     found = []
-    for square, corner in enumerate(_great_corners(world)):
+    for square, corner in enumerate(great_corners(world)):
         if corner is not None:
             found.append(straight(world, square, p, q)[0])
     return tuple(sorted(found))

@@ -4,9 +4,25 @@ import importlib
 import inspect
 import unittest
 
-from sample import LESSON, ONE_SQUARE, mixed_worlds
+from sample import GREAT, LESSON, ONE_SQUARE, ROW, mixed_worlds
 from squareworlds import books, errors
+from squareworlds.classes import class_of
+from squareworlds.covers import under
+from squareworlds.deeds import done, word_of
 from squareworlds.errors import NotKind, TooMany, WorldError
+from squareworlds.halfturns import stays, whole_stays
+from squareworlds.lots import lot
+from squareworlds.papers import check_lot_paper
+from squareworlds.parity import turning
+from squareworlds.returns import return_listing
+from squareworlds.rims import world_of
+from squareworlds.sheets import judged
+from squareworlds.texts import read_world
+from squareworlds.twists import lowered
+from squareworlds.worlds import check_world
+
+# Two squares in a row with two above the first.
+TOWER = ((1, 0, 2, 3), (2, 1, 3, 0))
 
 ATTRIBUTES = {
     "NotWorld": ("rule", "place"),
@@ -185,6 +201,91 @@ INTERFACE = {
         "end_of": (("world", "direction"), (LESSON, (-3, 2))),
         "back_words": (("world",), (LESSON,)),
     },
+    "blocks": {
+        "blocks_met": (("world", "one", "other"), (ROW, ((0, 2), (1, 3)), ((0, 1, 2, 3),))),
+        "blocks_joined": (("world", "one", "other"), (ROW, ((0, 2), (1, 3)), ((0, 1, 2, 3),))),
+        "block_sizes": (("world",), (ROW,)),
+    },
+    "rims": {
+        "rims": (("world",), (LESSON,)),
+        "figure": (("world",), (LESSON,)),
+        "figure_breach": (("value",), (((((0,), (0,)),), (1,), (1,), (1,)),)),
+        "world_of": (("value",), (((((0,), (0,)),), (3,), (2,), (1,)),)),
+    },
+    "twists": {
+        "twisted": (("world", "k", "times"), (LESSON, 0, 1)),
+        "raised": (("world", "k", "more"), (LESSON, 0, 2)),
+        "lowered": (("world", "k"), (TOWER, 1)),
+        "twist_lot": (("world",), (LESSON,)),
+    },
+    "points": {
+        "point_behind": (("world", "k", "point", "word"), (LESSON, 4, (1, 3, 2), "abC")),
+        "point_lot": (("world", "k", "point"), (LESSON, 2, (1, 0, 1))),
+        "point_lots": (("world", "k"), (LESSON, 2)),
+    },
+    "mirrors": {
+        "mirrored": (("world",), (LESSON,)),
+        "is_mirror_alike": (("world",), (LESSON,)),
+        "is_mirror_lot": (("world",), (LESSON,)),
+        "double_covers": (("world",), (LESSON,)),
+    },
+    "lines": {
+        "step_walk": (("p", "q"), (5, 3)),
+        "piece_walk": (("world", "piece", "p", "q"), (LESSON, 4, 3, 2)),
+        "chords_to": (("world", "most"), (LESSON, 20)),
+    },
+}
+
+
+
+def undo_behind(letters):
+    """What undo of a book takes back behind letters."""
+    book = books.Book(LESSON)
+    for letter in letters:
+        book.do(letter)
+    return book.undo()
+
+
+def again_behind(times):
+    """What again of a book does behind undo, so many times."""
+    book = books.Book(LESSON)
+    book.do("a")
+    for _ in range(times):
+        book.undo()
+    return book.again()
+
+
+# For each error: a call that raises it, its attributes, and the same call
+# without the fault.
+RAISED = {
+    "NotWorld": (check_world, (((0, 1), (1, 1)),), {"rule": "up", "place": 1}, (((0, 1), (1, 0)),)),
+    "NotText": (read_world, ("0 / 0 ",), {"place": 5}, ("0 / 0",)),
+    "NotWord": (done, (LESSON, "abr"), {"place": 2}, (LESSON, "ab")),
+    "NotMatrix": (word_of, (((1, 1), (1, 1)),), {}, (((1, 1), (0, 1)),)),
+    "TooLong": (word_of, (((1, 201), (0, 1)),), {"limit": 400}, (((1, 200), (0, 1)),)),
+    "TooMany": (lot, (GREAT,), {"limit": 500}, (LESSON,)),
+    "NotBlocks": (under, (ROW, ((0, 1), (2, 3))), {}, (ROW, ((0, 2), (1, 3)))),
+    "NotHalfTurn": (stays, (LESSON, (1, 0, 2)), {}, (LESSON, (0, 1, 2))),
+    "NotKind": (whole_stays, (ONE_SQUARE,), {}, (LESSON,)),
+    "NotPaper": (
+        check_lot_paper,
+        (LESSON, LESSON, ("word", "a")),
+        {"word": "word"},
+        (LESSON, LESSON, ("word", "c")),
+    ),
+    "NotSheet": (judged, ("world f 0 / 0\nkinds f",), {"line": 1}, ("world f 0 / 0\nkind f",)),
+    "NotDone": (undo_behind, ("",), {}, ("a",)),
+    "NotUndone": (again_behind, (0,), {}, (1,)),
+    "NotRound": (class_of, (LESSON, 0, "r"), {}, (LESSON, 0, "rr")),
+    "NotBack": (return_listing, (LESSON, "a"), {}, (LESSON, "aa")),
+    "NotPlain": (turning, (LESSON, 0, "rrrr"), {}, (LESSON, 0, "rr")),
+    "NotFigure": (
+        world_of,
+        (((((0,), (0,)),), (1,), (1,), (1,)),),
+        {"word": "twist"},
+        (((((0,), (0,)),), (1,), (1,), (0,)),),
+    ),
+    "NotHigh": (lowered, (TOWER, 0), {}, (TOWER, 1)),
 }
 
 # For each class: the arguments that make an object, its methods with theirs.
@@ -224,6 +325,23 @@ class TestErrors(unittest.TestCase):
                     self.assertEqual(getattr(error, attribute), value)
 
 
+    def test_each_is_raised(self):
+        self.assertEqual(list(RAISED), list(ATTRIBUTES))
+        self.assertEqual(len(RAISED), 18)
+        for name, (function, wrong, attributes, right) in RAISED.items():
+            with self.subTest(name):
+                with self.assertRaises(WorldError) as caught:
+                    function(*wrong)
+                error = caught.exception
+                self.assertIs(type(error), getattr(errors, name))
+                self.assertIsInstance(error, ValueError)
+                for other in ATTRIBUTES:
+                    self.assertEqual(isinstance(error, getattr(errors, other)), other == name)
+                told = {key: getattr(error, key) for key in ATTRIBUTES[name]}
+                self.assertEqual(told, attributes)
+                function(*right)
+
+
 class TestInterface(unittest.TestCase):
     def each(self):
         for module_name, functions in INTERFACE.items():
@@ -241,8 +359,10 @@ class TestInterface(unittest.TestCase):
             with self.subTest(function.__name__):
                 self.assertEqual(tuple(inspect.signature(function).parameters), arguments)
                 by_place = function(*values)
-                by_name = function(**dict(zip(arguments, values)))
-                self.assertEqual(by_place, by_name)
+                pairs = list(zip(arguments, values))
+                self.assertEqual(function(**dict(pairs)), by_place)
+                self.assertEqual(function(**dict(pairs[::-1])), by_place)
+                self.assertEqual(function(values[0], **dict(pairs[:0:-1])), by_place)
                 self.assertTrue(is_of_told_kinds(by_place))
 
     def test_what_is_handed_in_stands_as_it_was(self):
