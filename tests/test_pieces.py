@@ -62,6 +62,17 @@ class TestPieces(unittest.TestCase):
                 self.assertEqual(pieces(world, p, q), told)
                 self.assertEqual(sorted(told), list(range(len(told))))
 
+    def test_all_directions(self):
+        for p in range(51):
+            for q in range(1, 51):
+                if gcd(p, q) == 1:
+                    told = pieces(LESSON, p, q)
+                    self.assertEqual(sorted(told), list(range(3 * q)))
+                    self.assertEqual(pieces(ONE_SQUARE, p, q), tuple((i + p) % q for i in range(q)))
+                    # Room by room of the widths 1 and 2, or of the width 3.
+                    widths = (q, 2 * q) if p * q % 2 == 0 else (3 * q,)
+                    self.assertEqual(piece_rounds(LESSON, p, q), widths)
+
     def test_leant_back(self):
         for world in mixed_worlds()[::3]:
             for p, q in DIRECTIONS + LONG_ONES:
